@@ -4,8 +4,14 @@ import unittest
 from copy import deepcopy
 
 from evenpoints.boxes import is_box, is_side
+from evenpoints.corners import corners_of, rest_of
 from evenpoints.fractions import in_size, is_fraction
+from evenpoints.looks import all_worst, looks, many_looks, unevenness, worst
+from evenpoints.moves import beside, exchanged, mirrored, shadow, shifted
+from evenpoints.patches import counted
 from evenpoints.points import is_point, is_points
+from evenpoints.texts import box_text, points_text
+from things import scattered
 
 LISTS = (
     [0, 1], ([0, 1],), [[0, 1], [1, 2]], ([[0, 1]],), (([0, 1],),), ["to", (1, 2)], ("to", [1, 2]),
@@ -32,6 +38,39 @@ class HandedTest(unittest.TestCase):
         some[0] = (5, 1)
         self.assertEqual(told, ((0, 1), (1, 2)))
         self.assertEqual(in_size(some), ((0, 1), (1, 3), (5, 1)))
+
+    def test_points_and_boxes_stay(self):
+        points, box, cuts = scattered(3, 2), (("from", (1, 4), (1, 2)), ("round", (1, 2), (-1, 3))), (((1, 2),), ())
+        kept = deepcopy((points, box, cuts))
+        shifted(points, ((1, 2), (-1, 3))), mirrored(points, (0, 1)), exchanged(points, (1, 0))
+        shadow(points, (1,)), beside(points, points), corners_of(box), rest_of(box[0]), counted(points, cuts)
+        points_text(points), box_text(box)
+        for family in ("corner", "inner", "round"):
+            looks(points, family), many_looks(points, family), unevenness(points, family)
+            worst(points, family), all_worst(points, family)
+        self.assertEqual((points, box, cuts), kept)
+
+    def test_told_lists_are_the_askers_own(self):
+        points = scattered(3, 2)
+        for family in ("corner", "inner", "round"):
+            for asked in (looks, all_worst):
+                told = asked(points, family)
+                kept = deepcopy(told)
+                told.clear()
+                self.assertEqual(asked(points, family), kept)
+                told.append("changed")
+                told = asked(points, family)
+                told[0] = None
+                told.reverse()
+                self.assertEqual(asked(points, family), kept)
+
+    def test_nothing_hangs_on_what_was_asked_before(self):
+        one, other = scattered(3, 2), scattered(4, 2, seed=6)
+        first = [(unevenness(one, family), all_worst(one, family)) for family in ("corner", "inner", "round")]
+        for family in ("round", "corner", "inner"):
+            all_worst(other, family), looks(other, family)
+        again = [(unevenness(one, family), all_worst(one, family)) for family in ("corner", "inner", "round")]
+        self.assertEqual(first, again)
 
 
 if __name__ == "__main__":
