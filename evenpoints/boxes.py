@@ -1,6 +1,6 @@
 """Sides and boxes: what lies in them, how great they are, what they miss."""
 
-from evenpoints.fractions import ONE, ZERO, fraction, greater, is_below, is_fraction, less, lesser, plus, times
+from evenpoints.fractions import ONE, ZERO, fraction, greater, is_below, is_fraction, less, lesser, plus, product_of
 
 NUMBERS_BY_WORD = {"to": 1, "from": 2, "round": 2}
 WORDS_BY_FAMILY = {"corner": ("to",), "inner": ("from",), "round": ("from", "round")}
@@ -46,10 +46,7 @@ def side_size(side):
 
 def size_of(box):
     """Tell the size of a BOX: the product of its sides' sizes."""
-    size = ONE
-    for side in box:
-        size = times(size, side_size(side))
-    return size
+    return product_of([side_size(side) for side in box])
 
 
 def goes_ahead(one, other, may_meet):

@@ -11,6 +11,11 @@ def is_whole(thing):
     return isinstance(thing, int) and not isinstance(thing, bool)
 
 
+def is_place(thing, many):
+    """Tell of any plain thing whether it is a whole number from 0 to below many."""
+    return is_whole(thing) and 0 <= thing < many
+
+
 def common_divisor(one, other):
     """Tell the greatest number that divides both; 0 where both are 0."""
     while other != 0:
@@ -51,6 +56,23 @@ def less(one, other):
 def times(one, other):
     """Tell the product of two fractions."""
     return fraction(one[0] * other[0], one[1] * other[1])
+
+
+def sum_of(some):
+    """Tell the sum of a list of fractions, perhaps of none."""
+    # One bottom for all, so that a great sum is brought to lowest terms only once.
+    bottom = 1
+    for one in some:
+        bottom *= one[1] // common_divisor(bottom, one[1])
+    return fraction(sum([one[0] * (bottom // one[1]) for one in some]), bottom)
+
+
+def product_of(some):
+    """Tell the product of a list of fractions, perhaps of none."""
+    product = ONE
+    for one in some:
+        product = times(product, one)
+    return product
 
 
 def over(one, other):

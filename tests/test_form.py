@@ -215,6 +215,15 @@ class NodesTest(unittest.TestCase):
                 if isinstance(node, ast.FormattedValue):
                     self.assertIsNone(node.format_spec, name)
 
+    def test_walks_are_not_stored(self):
+        once = {"zip", "enumerate", "reversed", "range"}
+        for name, tree in trees():
+            for node in ast.walk(tree):
+                if isinstance(node, (ast.Assign, ast.AugAssign, ast.Return)) and isinstance(node.value, ast.Call):
+                    called = node.value.func
+                    self.assertNotIn(called.id if isinstance(called, ast.Name) else "", once, (name, node.lineno))
+                    self.assertNotIn(called.attr if isinstance(called, ast.Attribute) else "", ("items", "keys", "values"))
+
     def test_is_only_of_none_and_truths(self):
         for name, tree in trees():
             for node in ast.walk(tree):

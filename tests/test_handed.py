@@ -4,18 +4,26 @@ import unittest
 from copy import deepcopy
 
 from evenpoints.boxes import is_box, is_side
+from evenpoints.cells import cell_told
 from evenpoints.corners import corners_of, rest_of
+from evenpoints.errors import NoPaper
+from evenpoints.evenchecker import lets_even
+from evenpoints.evenpapers import even_corner, even_exchanged, even_inner, even_joined, even_paper, even_shadow
 from evenpoints.fractions import in_size, is_fraction
 from evenpoints.looks import all_worst, looks, many_looks, unevenness, worst
 from evenpoints.moves import beside, exchanged, mirrored, shadow, shifted
 from evenpoints.patches import counted
 from evenpoints.points import is_point, is_points
+from evenpoints.rows import box_of, indexes, is_row, is_small, many_in, points_of, row_bound
+from evenpoints.squares import square_miss, square_without
 from evenpoints.texts import box_text, points_text
 from things import scattered
 
 LISTS = (
     [0, 1], ([0, 1],), [[0, 1], [1, 2]], ([[0, 1]],), (([0, 1],),), ["to", (1, 2)], ("to", [1, 2]),
     (["to", [1, 2]],), [["from", [0, 1], [1, 2]]], ("round", [0, 1], (1, 1)), [[[[]]]], ([], []),
+    ["cut", 0, 0, (1, 2), (), ()], ("cut", 0, 0, [1, 2], (), ()), ("cut", 0, 0, (1, 2), (), [[]]), ["ways", 0, [], []],
+    [[2, [0, 1]]], ((2, [0, 1]),), ([2, (0, 1)],), [(1, 0)], ([1, 0],),
 )
 
 
@@ -29,6 +37,11 @@ class HandedTest(unittest.TestCase):
                 self.assertIs(is_point(s, thing), False)
                 self.assertIs(is_points(s, thing), False)
                 self.assertIs(is_box(s, thing), False)
+            self.assertIs(is_row(thing), False)
+            self.assertIs(is_small(((2, (0, 1)),), thing), False)
+            for family in ("corner", "inner", "round"):
+                with self.assertRaises(NoPaper):
+                    lets_even(scattered(3, 1), family, (1, 1), thing)
             self.assertEqual(thing, kept)
 
     def test_a_list_changed_behind_the_call_changes_nothing(self):
@@ -49,6 +62,29 @@ class HandedTest(unittest.TestCase):
             looks(points, family), many_looks(points, family), unevenness(points, family)
             worst(points, family), all_worst(points, family)
         self.assertEqual((points, box, cuts), kept)
+
+    def test_papers_stay(self):
+        points = scattered(3, 2)
+        for family in ("corner", "inner", "round"):
+            paper = even_paper(points, family, unevenness(points, family))
+            kept = deepcopy((points, paper))
+            square_miss(points), square_without(points), lets_even(points, family, (1, 1), paper)
+            even_exchanged(paper, (1, 0)), even_shadow(family, paper, 0), even_joined(family, 2, paper, paper)
+            if family != "corner":
+                turned = even_inner(paper) if family == "round" else even_corner(paper)
+                self.assertIs(lets_even(points, {"round": "inner", "inner": "corner"}[family], (1, 1), turned), True)
+            self.assertEqual((points, paper), kept)
+            self.assertEqual(even_paper(points, family, unevenness(points, family)), kept[1])
+
+    def test_cells_and_rows_stay(self):
+        cell = (("to", (((-1, 1), (1, 2)),)), ("round", (((0, 1), (1, 2)), ((-1, 1), (1, 3)))))
+        row, small_box = ((2, (0, 1)), (3, (0, 2, 1))), ((1, 1), (2, 5))
+        kept = deepcopy((cell, row, small_box))
+        first = (cell_told(scattered(3, 2), cell), points_of(row, 4, 5), indexes(row, small_box), box_of(row, small_box))
+        many_in(row, small_box, 3, 100), row_bound(row, 40), is_row(row), is_small(row, small_box)
+        self.assertEqual((cell, row, small_box), kept)
+        again = (cell_told(scattered(3, 2), cell), points_of(row, 4, 5), indexes(row, small_box), box_of(row, small_box))
+        self.assertEqual(first, again)
 
     def test_told_lists_are_the_askers_own(self):
         points = scattered(3, 2)

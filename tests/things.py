@@ -91,3 +91,12 @@ def scattered(many, s, bottom=17, seed=1):
             point.append(small(Fraction((state >> 16) % bottom, bottom)))
         points.append(tuple(point))
     return tuple(points)
+
+
+def turned_plainly(base, exchange, n):
+    """Add up exchange[a_k] over b ** (k + 1)."""
+    total, k = Fraction(0), 0
+    while n >= base ** k:
+        total += Fraction(exchange[n // base ** k % base], base ** (k + 1))
+        k += 1
+    return total
