@@ -97,6 +97,11 @@ def greater(one, other):
     return other if is_below(one, other) else one
 
 
+def rounded_up(top, bottom):
+    """Tell a whole number divided by another one above 0, rounded up."""
+    return -(-top // bottom)
+
+
 def floor_of(one):
     """Tell the greatest whole number that is no more than a fraction."""
     return one[0] // one[1]

@@ -10,12 +10,17 @@ from evenpoints.errors import NoPaper
 from evenpoints.evenchecker import lets_even
 from evenpoints.evenpapers import even_corner, even_exchanged, even_inner, even_joined, even_paper, even_shadow
 from evenpoints.fractions import in_size, is_fraction
+from evenpoints.gapchecker import lets_neighbours
+from evenpoints.gaps import gaps, neighbours, next_of
 from evenpoints.looks import all_worst, looks, many_looks, unevenness, worst
 from evenpoints.moves import beside, exchanged, mirrored, shadow, shifted
 from evenpoints.patches import counted
+from evenpoints.piecechecker import bounds_by, lets_pieces
+from evenpoints.pieces import piece_paper
 from evenpoints.points import is_point, is_points
 from evenpoints.rows import box_of, indexes, is_row, is_small, many_in, points_of, row_bound
 from evenpoints.squares import square_miss, square_without
+from evenpoints.steps import blocks, denominators, step_bound, stepped
 from evenpoints.texts import box_text, points_text
 from things import scattered
 
@@ -24,6 +29,7 @@ LISTS = (
     (["to", [1, 2]],), [["from", [0, 1], [1, 2]]], ("round", [0, 1], (1, 1)), [[[[]]]], ([], []),
     ["cut", 0, 0, (1, 2), (), ()], ("cut", 0, 0, [1, 2], (), ()), ("cut", 0, 0, (1, 2), (), [[]]), ["ways", 0, [], []],
     [[2, [0, 1]]], ((2, [0, 1]),), ([2, (0, 1)],), [(1, 0)], ([1, 0],),
+    [[[[0, 0]]], []], (([[0, 0]],), ()), ([((0, 0),)], ()), ((([0, 0],),), []), [5, 8], ([5], 8),
 )
 
 
@@ -42,6 +48,10 @@ class HandedTest(unittest.TestCase):
             for family in ("corner", "inner", "round"):
                 with self.assertRaises(NoPaper):
                     lets_even(scattered(3, 1), family, (1, 1), thing)
+            with self.assertRaises(NoPaper):
+                lets_pieces(((2, (0, 1)),), (("to", (1, 1)),), thing)
+            with self.assertRaises(NoPaper):
+                lets_neighbours((8, 13), 9, thing)
             self.assertEqual(thing, kept)
 
     def test_a_list_changed_behind_the_call_changes_nothing(self):
@@ -85,6 +95,16 @@ class HandedTest(unittest.TestCase):
         self.assertEqual((cell, row, small_box), kept)
         again = (cell_told(scattered(3, 2), cell), points_of(row, 4, 5), indexes(row, small_box), box_of(row, small_box))
         self.assertEqual(first, again)
+
+    def test_piece_papers_and_steps_stay(self):
+        row, box, step = ((2, (0, 1)), (3, (0, 2, 1))), (("from", (1, 4), (2, 3)), ("from", (-1, 2), (1, 2))), (8, 13)
+        paper = piece_paper(row, box, 2)
+        kept = deepcopy((row, box, step, paper))
+        lets_pieces(row, box, paper), bounds_by(row, paper, 100), stepped((1, 2), step, 5), denominators(step)
+        blocks(step, 40), step_bound(step, 40), neighbours(step, 9), next_of(step, 9, 4), gaps(step, 9)
+        lets_neighbours(step, 9, neighbours(step, 9))
+        self.assertEqual((row, box, step, paper), kept)
+        self.assertEqual(piece_paper(row, box, 2), kept[3])
 
     def test_told_lists_are_the_askers_own(self):
         points = scattered(3, 2)
