@@ -350,6 +350,18 @@ class MadeTest(unittest.TestCase):
         self.assertEqual(len(told[0]) + len(told[1]), 1000)
         self.assertIs(lets_pieces(row, box, told), True)
 
+    def test_those_across_are_counted(self):
+        row = (FIVE, SEVEN)
+        box = (("from", (31, 1000), (351, 500)), ("from", (21, 1000), (367, 1000)))
+        told = piece_paper(row, box, 6)
+        self.assertEqual((len(told[0]), len(told[1])), (23 * 38, 1000 - 23 * 38))
+        self.assertIs(lets_pieces(row, box, told), True)
+        # Without those across there would be fewer than a thousand.
+        box = (("from", (63, 100), (91, 100)), ("from", (353, 1000), (122, 125)))
+        with self.assertRaises(TooMany) as caught:
+            piece_paper(row, box, 6)
+        self.assertEqual(caught.exception.word, "pieces")
+
     def test_more_are_refused(self):
         thousand_and_one = (
             (THREE, SIXTEEN), (("from", (4049, 6561), (5042, 6561)), ("from", (149133077, 2147483648), (918959105, 4294967296))),
