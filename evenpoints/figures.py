@@ -20,6 +20,12 @@ def figures_of(base, n):
     return figures
 
 
+def figures_in(base, n, k):
+    """Tell a list of k figures of a number below base to the power k, the lowest place first."""
+    figures = figures_of(base, n)
+    return figures + [0] * (k - len(figures))
+
+
 def number_of(base, figures):
     """Tell the number with these figures, the lowest place first."""
     n = 0
@@ -48,9 +54,7 @@ def least_exponent(base, bottom):
 
 def whole_back(base, exchange, k, c):
     """Tell the number below base to the power k whose first k figures, turned about, are c's."""
-    figures = figures_of(base, c)
-    figures += [0] * (k - len(figures))
-    return number_of(base, [exchange.index(figure) for figure in reversed(figures)])
+    return number_of(base, [exchange.index(figure) for figure in reversed(figures_in(base, c, k))])
 
 
 def turned_back(base, exchange, x):

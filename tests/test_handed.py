@@ -6,7 +6,7 @@ from copy import deepcopy
 from evenpoints.boxes import is_box, is_side
 from evenpoints.cells import cell_told
 from evenpoints.corners import corners_of, rest_of
-from evenpoints.errors import NoPaper
+from evenpoints.errors import NoNet, NoPaper
 from evenpoints.evenchecker import lets_even
 from evenpoints.evenpapers import even_corner, even_exchanged, even_inner, even_joined, even_paper, even_shadow
 from evenpoints.fractions import in_size, is_fraction
@@ -14,6 +14,9 @@ from evenpoints.gapchecker import lets_neighbours
 from evenpoints.gaps import gaps, neighbours, next_of
 from evenpoints.looks import all_worst, looks, many_looks, unevenness, worst
 from evenpoints.moves import beside, exchanged, mirrored, shadow, shifted
+from evenpoints.netchecker import lets_net, void_box
+from evenpoints.netpapers import net_paper
+from evenpoints.nets import is_tables, points_of_tables, rows_of, shape_box, shapes_of
 from evenpoints.patches import counted
 from evenpoints.piecechecker import bounds_by, lets_pieces
 from evenpoints.pieces import piece_paper
@@ -21,6 +24,8 @@ from evenpoints.points import is_point, is_points
 from evenpoints.rows import box_of, indexes, is_row, is_small, many_in, points_of, row_bound
 from evenpoints.squares import square_miss, square_without
 from evenpoints.steps import blocks, denominators, step_bound, stepped
+from evenpoints.strength import beginning, net_bound, strength, sum_tables
+from evenpoints.tables import applied, combination, is_table, right_inverse, table_times
 from evenpoints.texts import box_text, points_text
 from things import scattered
 
@@ -30,6 +35,8 @@ LISTS = (
     ["cut", 0, 0, (1, 2), (), ()], ("cut", 0, 0, [1, 2], (), ()), ("cut", 0, 0, (1, 2), (), [[]]), ["ways", 0, [], []],
     [[2, [0, 1]]], ((2, [0, 1]),), ([2, (0, 1)],), [(1, 0)], ([1, 0],),
     [[[[0, 0]]], []], (([[0, 0]],), ()), ([((0, 0),)], ()), ((([0, 0],),), []), [5, 8], ([5], 8),
+    [[[1, 0], [0, 1]]], ([(1, 0), (0, 1)],), (((1, 0), [0, 1]),), ["net", [[[1]]]], ("net", [((1,),)]), ("none", [1], [1]),
+    ["none", (1,), (1,)], ("none", (1,), [1]),
 )
 
 
@@ -52,6 +59,10 @@ class HandedTest(unittest.TestCase):
                 lets_pieces(((2, (0, 1)),), (("to", (1, 1)),), thing)
             with self.assertRaises(NoPaper):
                 lets_neighbours((8, 13), 9, thing)
+            self.assertIs(is_table(2, 2, 2, thing), False)
+            self.assertIs(is_tables(2, thing), False)
+            with self.assertRaises(NoNet):
+                lets_net(2, (((1,),),), 1, thing)
             self.assertEqual(thing, kept)
 
     def test_a_list_changed_behind_the_call_changes_nothing(self):
@@ -105,6 +116,28 @@ class HandedTest(unittest.TestCase):
         lets_neighbours(step, 9, neighbours(step, 9))
         self.assertEqual((row, box, step, paper), kept)
         self.assertEqual(piece_paper(row, box, 2), kept[3])
+
+    def test_tables_and_net_papers_stay(self):
+        for p, tables in ((2, sum_tables(2, 3, 2)), (3, (((1, 2), (0, 1)), ((1, 2), (2, 2))))):
+            kept = deepcopy(tables)
+            applied(p, tables[0], tables[1][0]), table_times(p, tables[0], tables[1]), right_inverse(p, tables[0])
+            combination(p, tables[1]), points_of_tables(p, tables), rows_of(tables, (1, 1)), shape_box(p, (1, 1), (0, 1))
+            strength(p, tables), net_bound(p, 2, 2)
+            for w in (1, 2):
+                paper = net_paper(p, tables, w)
+                kept_paper = deepcopy(paper)
+                lets_net(p, tables, w, paper)
+                if paper[0] == "none":
+                    void_box(p, tables, paper)
+                self.assertEqual((tables, paper), (kept, kept_paper))
+                self.assertEqual(net_paper(p, tables, w), kept_paper)
+        self.assertEqual(beginning(sum_tables(2, 3, 2), 2), sum_tables(2, 2, 2))
+
+    def test_told_shapes_are_the_askers_own(self):
+        told = shapes_of(3, 2)
+        kept = list(told)
+        told.clear()
+        self.assertEqual(shapes_of(3, 2), kept)
 
     def test_told_lists_are_the_askers_own(self):
         points = scattered(3, 2)
