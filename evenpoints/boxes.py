@@ -33,6 +33,11 @@ def is_of(family, box):
     return all([side[0] in words for side in box])
 
 
+def is_corner(s, thing):
+    """Tell of any plain thing whether it is a BOX of s sides of the family "corner"."""
+    return is_box(s, thing) and is_of("corner", thing)
+
+
 def side_size(side):
     """Tell the size of a SIDE; its numbers below 0 count as 0."""
     end = greater(side[-1], ZERO)

@@ -8,12 +8,17 @@ from evenpoints.points import MOST_POINTS, is_number
 MOST_FIGURES = 1000
 
 
+def writes_figures(text):
+    """Tell whether a text writes a whole number from 0 on, without a 0 ahead but 0 itself."""
+    if not text.isascii() or not text.isdigit():
+        return False
+    return text[0] != "0" or text == "0"
+
+
 def read_figures(text):
-    """Read a whole number from 0 on, without a 0 ahead but 0 itself; else tell None."""
+    """Read a whole number from 0 on, of at most a thousand figures; else tell None."""
     # The count of figures is looked at first: Python refuses to read very long ones.
-    if len(text) > MOST_FIGURES or not text.isascii() or not text.isdigit():
-        return None
-    if text[0] == "0" and text != "0":
+    if len(text) > MOST_FIGURES or not writes_figures(text):
         return None
     return int(text)
 

@@ -25,11 +25,16 @@ def many_patches(cuts):
     return many
 
 
+def patches_of(cuts):
+    """Tell a list of all patches that cuts make, rising."""
+    return choices([list(range(len(ends) + 1)) for ends in cuts])
+
+
 def counted(points, cuts):
     """Tell (patch, many) of all patches, rising, also of those with no point."""
     if many_patches(cuts) > MOST_PATCHES:
         raise TooMany("patches")
-    counts = {patch: 0 for patch in choices([list(range(len(ends) + 1)) for ends in cuts])}
+    counts = {patch: 0 for patch in patches_of(cuts)}
     for point in points:
         counts[patch_of(point, cuts)] += 1
     return tuple(counts.items())

@@ -1,12 +1,28 @@
 """Fractions, points and boxes written as texts."""
 
+PIECE = 10 ** 64
+PIECE_FIGURES = 64
+
+
+def whole_text(n):
+    """Write a whole number's figures, a - ahead of one below 0."""
+    if n < 0:
+        return "-" + whole_text(-n)
+    # Python refuses to write very long numbers at once, so they are written piece by piece.
+    pieces = []
+    while n >= PIECE:
+        n, rest = divmod(n, PIECE)
+        pieces.append(str(rest).zfill(PIECE_FIGURES))
+    pieces.append(str(n))
+    return "".join(pieces[::-1])
+
 
 def fraction_text(one):
     """Write a fraction: n, or n/d where d is not 1."""
     top, bottom = one
     if bottom == 1:
-        return str(top)
-    return f"{top}/{bottom}"
+        return whole_text(top)
+    return f"{whole_text(top)}/{whole_text(bottom)}"
 
 
 def point_text(point):

@@ -12,11 +12,15 @@ from evenpoints.evenpapers import even_corner, even_exchanged, even_inner, even_
 from evenpoints.fractions import in_size, is_fraction
 from evenpoints.gapchecker import lets_neighbours
 from evenpoints.gaps import gaps, neighbours, next_of
+from evenpoints.least import least_set, places_of
+from evenpoints.leastchecker import lets_least
 from evenpoints.looks import all_worst, looks, many_looks, unevenness, worst
 from evenpoints.moves import beside, exchanged, mirrored, shadow, shifted
 from evenpoints.netchecker import lets_net, void_box
 from evenpoints.netpapers import net_paper
 from evenpoints.nets import is_tables, points_of_tables, rows_of, shape_box, shapes_of
+from evenpoints.orderchecker import lets_order
+from evenpoints.orders import best_order, heave
 from evenpoints.patches import counted
 from evenpoints.piecechecker import bounds_by, lets_pieces
 from evenpoints.pieces import piece_paper
@@ -25,6 +29,7 @@ from evenpoints.rows import box_of, indexes, is_row, is_small, many_in, points_o
 from evenpoints.squares import square_miss, square_without
 from evenpoints.steps import blocks, denominators, step_bound, stepped
 from evenpoints.strength import beginning, net_bound, strength, sum_tables
+from evenpoints.sums import mean_of, sheet_of, swing_of, value_at, weights_of, whole_of
 from evenpoints.tables import applied, combination, is_table, right_inverse, table_times
 from evenpoints.texts import box_text, points_text
 from things import scattered
@@ -36,7 +41,8 @@ LISTS = (
     [[2, [0, 1]]], ((2, [0, 1]),), ([2, (0, 1)],), [(1, 0)], ([1, 0],),
     [[[[0, 0]]], []], (([[0, 0]],), ()), ([((0, 0),)], ()), ((([0, 0],),), []), [5, 8], ([5], 8),
     [[[1, 0], [0, 1]]], ([(1, 0), (0, 1)],), (((1, 0), [0, 1]),), ["net", [[[1]]]], ("net", [((1,),)]), ("none", [1], [1]),
-    ["none", (1,), (1,)], ("none", (1,), [1]),
+    ["none", (1,), (1,)], ("none", (1,), [1]), ["take", 0, ["few"], ["few"]], ("take", 0, ("few",), ["few"]), ["over", [["to", [1, 2]]]],
+    ("over", [("to", (1, 2))]), ("lack", (["to", (1, 2)],)), [[(), [[]]]], (((), [()]),), (([], ((),)),), (((), ([],)),),
 )
 
 
@@ -63,6 +69,10 @@ class HandedTest(unittest.TestCase):
             self.assertIs(is_tables(2, thing), False)
             with self.assertRaises(NoNet):
                 lets_net(2, (((1,),),), 1, thing)
+            with self.assertRaises(NoPaper):
+                lets_least((((0, 1), (1, 2)),), 1, (-1, 1), thing)
+            with self.assertRaises(NoPaper):
+                lets_order((((1, 2),),), (-1, 1), thing)
             self.assertEqual(thing, kept)
 
     def test_a_list_changed_behind_the_call_changes_nothing(self):
@@ -132,6 +142,24 @@ class HandedTest(unittest.TestCase):
                 self.assertEqual((tables, paper), (kept, kept_paper))
                 self.assertEqual(net_paper(p, tables, w), kept_paper)
         self.assertEqual(beginning(sum_tables(2, 3, 2), 2), sum_tables(2, 2, 2))
+
+    def test_least_and_order_papers_stay(self):
+        grid, points = (((0, 1), (1, 3), (1, 2)), ((1, 4), (1, 2))), scattered(4, 2)
+        least, best = least_set(grid, 3), best_order(points)
+        kept = deepcopy((grid, points, least, best))
+        places_of(grid), lets_least(grid, 3, least[0], least[2]), heave(points, best[1]), lets_order(points, best[0], best[2])
+        self.assertEqual((grid, points, least, best), kept)
+        self.assertEqual((least_set(grid, 3), best_order(points)), kept[2:])
+
+    def test_sheets_stay(self):
+        sheet, points = ((((1, 3), (1, 2)), ((1, 4),)), (((0, 1), (1, 2)), ((-1, 3), (2, 1)), ((5, 1), (5, 1)))), scattered(5, 2)
+        weights = list(weights_of(sheet))
+        kept = deepcopy((sheet, points, weights))
+        value_at(sheet, points[0]), mean_of(sheet, points), whole_of(sheet), swing_of(sheet)
+        told = sheet_of(sheet[0], weights)
+        self.assertEqual((sheet, points, weights), kept)
+        weights.clear()
+        self.assertEqual(told, kept[0])
 
     def test_told_shapes_are_the_askers_own(self):
         told = shapes_of(3, 2)

@@ -33,6 +33,17 @@ class FractionTextTest(unittest.TestCase):
             text = fraction_text(one)
             self.assertEqual(read_fraction(text), one)
 
+    def test_figures_of_all_lengths(self):
+        for many in list(range(1, 140)) + [191, 192, 193, 999, 1000]:
+            for n in (10 ** (many - 1), 10 ** many - 1, 10 ** (many - 1) + 7, 7 * 10 ** (many - 1) + 10 ** (many // 2)):
+                self.assertEqual(fraction_text((n, 1)), str(n))
+                self.assertEqual(fraction_text((-n, 1)), str(-n))
+                self.assertEqual(fraction_text((1, n + 1)), f"1/{n + 1}")
+
+    def test_more_figures_than_python_writes_at_once(self):
+        self.assertEqual(fraction_text((10 ** 5000, 1)), "1" + "0" * 5000)
+        self.assertEqual(fraction_text((-(10 ** 9999) - 5, 10 ** 5000)), "-1" + "0" * 9998 + "5/1" + "0" * 5000)
+
     def test_more_figures_tell_none(self):
         for more in ("1" + "0" * 1000, "9" * 1001, "1" * 5000, "1" * 100000):
             for text in (more, "-" + more, "1/" + more, "-1/" + more, more + "/7", more + "/" + more):

@@ -1,6 +1,8 @@
 """Things that several tests hand in, and sums done another way."""
 
 from fractions import Fraction
+from itertools import product
+from math import gcd, prod
 
 HUGE = 10 ** 59 + 7
 
@@ -80,6 +82,21 @@ def box_size_plainly(box):
     return size
 
 
+def is_corner_plainly(s, thing):
+    """Tell by the document's words whether a thing is a box of s sides of the family "corner"."""
+    if type(thing) is not tuple or len(thing) != s:
+        return False
+    for side in thing:
+        if type(side) is not tuple or len(side) != 2 or type(side[0]) is not str or side[0] != "to":
+            return False
+        end = side[1]
+        if type(end) is not tuple or len(end) != 2 or any(type(n) is not int for n in end):
+            return False
+        if end[1] < 1 or gcd(end[0], end[1]) != 1 or not -1 <= big(end) <= 1:
+            return False
+    return True
+
+
 def scattered(many, s, bottom=17, seed=1):
     """Make points by a fixed rule, some of them alike."""
     points = []
@@ -100,3 +117,31 @@ def turned_plainly(base, exchange, n):
         total += Fraction(exchange[n // base ** k % base], base ** (k + 1))
         k += 1
     return total
+
+
+def uneven_plainly(points):
+    """Tell the unevenness by "corner" as Python's own fraction: the greatest over and lack of all looks."""
+    ends = [sorted({big(point[side]) for point in points} | {Fraction(1)}) for side in range(len(points[0]))]
+    greatest = Fraction(-1)
+    for limits in product(*ends):
+        size = prod(limits)
+        shut = sum(all(big(x) <= t for x, t in zip(point, limits)) for point in points)
+        free = sum(all(big(x) < t for x, t in zip(point, limits)) for point in points)
+        greatest = max(greatest, Fraction(shut, len(points)) - size, size - Fraction(free, len(points)))
+    return greatest
+
+
+def altered(thing, others):
+    """Make all things that come of a thing by one part, however deep, exchanged, left out, doubled or made a list."""
+    made = list(others)
+    if isinstance(thing, tuple):
+        made.append(list(thing))
+        for place, part in enumerate(thing):
+            made.append(thing[:place] + thing[place + 1:])
+            made.append(thing[:place] + (part,) + thing[place:])
+            made += [thing[:place] + (other,) + thing[place + 1:] for other in altered(part, others)]
+    elif isinstance(thing, int):
+        made += [thing + 1, thing - 1, -thing, bool(thing), str(thing)]
+    elif isinstance(thing, str):
+        made += [thing + "s", thing[:-1], thing.upper()]
+    return made
