@@ -63,11 +63,7 @@ def needs_of(rows, many, number):
 
 
 def leaf_for(needs, many, taken, free):
-    """Tell a leaf that holds where these places are taken and free, or None."""
-    if len(taken) > many:
-        return ("many",)
-    if len(taken) + len(free) < many:
-        return ("few",)
+    """Tell a leaf with a box that holds where these places are taken and free, or None."""
     for leaf, within, need in needs:
         taken_within = many_within(taken, within)
         outside = len(taken) - taken_within + len(free) - many_within(free, within)
@@ -77,7 +73,12 @@ def leaf_for(needs, many, taken, free):
 
 
 def least_paper(needs, many, taken, free):
-    """Tell a node for these taken and free places; with no free ones left a leaf always holds."""
+    """Tell a node for these taken and free places.
+
+    Where just so many are taken, or are taken and free together, they are the
+    set, and the box of its unevenness holds. So no node has more or fewer, and
+    there is always a free place to ask of.
+    """
     leaf = leaf_for(needs, many, taken, free)
     if leaf is not None:
         return leaf

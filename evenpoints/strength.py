@@ -50,7 +50,7 @@ def mirrored_tables(p, m, s):
 
 
 def pieces_bound(p, s, v):
-    """Tell B(s, v): how many points a corner box of a net can miss by, at most."""
+    """Tell B(s, v): by how many shares of p to the power v, at most, a corner box of a net of s sides misses."""
     if s == 1:
         return 1
     return 1 + (p - 1) * sum([pieces_bound(p, s - 1, u) for u in range(v)])

@@ -215,6 +215,22 @@ class NodesTest(unittest.TestCase):
                 if isinstance(node, ast.FormattedValue):
                     self.assertIsNone(node.format_spec, name)
 
+    def test_what_is_called_and_raised(self):
+        for name, tree in trees():
+            for node in ast.walk(tree):
+                if isinstance(node, ast.Call):
+                    self.assertIsInstance(node.func, (ast.Name, ast.Attribute), (name, node.lineno))
+                if isinstance(node, ast.Raise):
+                    self.assertIsInstance(node.exc, ast.Call, (name, node.lineno))
+                    self.assertIsInstance(node.exc.func, ast.Name, (name, node.lineno))
+
+    def test_lists_and_dicts_at_the_top_hold_no_others(self):
+        for name, tree in trees():
+            for node in tree.body:
+                if isinstance(node, ast.Assign):
+                    inner = [part for part in ast.walk(node.value) if isinstance(part, (ast.List, ast.Dict))]
+                    self.assertLessEqual(len(inner), 1, (name, node.lineno))
+
     def test_walks_are_not_stored(self):
         once = {"zip", "enumerate", "reversed", "range"}
         for name, tree in trees():

@@ -4,6 +4,7 @@ import unittest
 from fractions import Fraction
 from itertools import combinations
 from math import comb
+from random import Random
 
 from evenpoints.errors import EvenError, NoPaper, TooMany
 from evenpoints.least import least_set, places_of
@@ -175,6 +176,15 @@ class LeastSetTest(unittest.TestCase):
     def test_few_of_many(self):
         self.check((ODD[:3], even_side(4)), 4)
         self.check((even_side(11),), 4)
+
+    def test_grids_by_a_fixed_rule(self):
+        chance, longest = Random("grids"), 0
+        numbers = [Fraction(k, 97) for k in range(97)]
+        for sides, many in (((9,), 4), ((10,), 3), ((11,), 8), ((3, 3), 4), ((2, 5), 6), ((4, 3), 2), ((3, 4), 9), ((5, 2), 5)):
+            grid = tuple(tuple(small(x) for x in sorted(chance.sample(numbers, length))) for length in sides)
+            longest = max(longest, len(paths_of(self.check(grid, many)[2])))
+        # Some of the papers are trees of many nodes.
+        self.assertGreater(longest, 10)
 
     def test_examples(self):
         self.assertEqual(least_set((((0, 1),),), 1)[:2], ((1, 1), (0,)))
